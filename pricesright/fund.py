@@ -6,6 +6,7 @@ from pricesright.bounds import (
     MOST_FIRST_CASH, MOST_FIRST_UNITS, MOST_LIMIT, MOST_QUANTITY, MOST_QUOTE, MOST_RATE, NOT_THERE, NO_PRICE,
     OUT_OF_RANGE, THINGS, UNITS_OUT, WRONG_FORM,
 )
+from pricesright.history import numbers_of_wrong_days
 from pricesright.reckoning import Terms
 from pricesright.state import new_fund
 
@@ -16,6 +17,10 @@ def is_row(row, length, most):
 
 def is_thing(thing):
     return 1 <= thing <= THINGS
+
+
+def is_holder(holder):
+    return 1 <= holder <= HOLDERS
 
 
 def is_quote(quote):
@@ -57,7 +62,7 @@ def answer_quote(fund, told):
 
 def answer_order(fund, told):
     deal = Deal(told[0], told[1], told[2])
-    if not (1 <= deal.holder <= HOLDERS and MONEY_IN <= deal.kind <= UNITS_OUT):
+    if not (is_holder(deal.holder) and MONEY_IN <= deal.kind <= UNITS_OUT):
         return [OUT_OF_RANGE]
     if not 1 <= deal.amount <= MOST_AMOUNT:
         return [OUT_OF_RANGE]
@@ -119,6 +124,59 @@ def answer_right(fund, told):
     return [1 if right.wrong else 0, right.reckoning.value, right.reckoning.units, right.result.fee]
 
 
+def answer_outcome(fund, told):
+    number = told[0]
+    place = told[1]
+    if not 1 <= place <= MOST_DEALS:
+        return [OUT_OF_RANGE]
+    refusal = day_refusal(fund, number)
+    if refusal < 0:
+        return [refusal]
+    day = fund.days[number - 1]
+    if place > len(day.deals):
+        return [NOT_THERE]
+    right = fund.history()[number - 1]
+    answer = [day.deals[place - 1].holder]
+    for result in (day.published, day.standing, right.result):
+        outcome = result.outcomes[place - 1]
+        answer.extend([outcome.money, outcome.units])
+    return answer
+
+
+def answer_holder(fund, told):
+    holder = told[0]
+    if not is_holder(holder):
+        return [OUT_OF_RANGE]
+    stands = fund.standing_book().units_of(holder)
+    should_be = fund.right_book().units_of(holder)
+    return [0, stands, should_be, fund.balances[holder - 1], fund.owed_to_each()[holder - 1]]
+
+
+def book_answer(book):
+    return [0, book.cash] + book.units
+
+
+def answer_book(fund, told):
+    return book_answer(fund.standing_book())
+
+
+def answer_rightbook(fund, told):
+    return book_answer(fund.right_book())
+
+
+def answer_owed(fund, told):
+    return [0] + fund.owed_to_each()
+
+
+def answer_wrongs(fund, told):
+    wrong = numbers_of_wrong_days(fund.history())
+    return [len(wrong)] + wrong
+
+
+def answer_counts(fund, told):
+    return [len(fund.days), len(fund.deals), len(fund.corrections)]
+
+
 # By the call's number: what answers it, how many whole numbers it has, how many rows behind them.
 CALLS = (
     (answer_begin, 3, 2),
@@ -129,6 +187,13 @@ CALLS = (
     (answer_putright, 0, 0),
     (answer_day, 1, 0),
     (answer_right, 1, 0),
+    (answer_outcome, 2, 0),
+    (answer_holder, 1, 0),
+    (answer_book, 0, 0),
+    (answer_rightbook, 0, 0),
+    (answer_owed, 0, 0),
+    (answer_wrongs, 0, 0),
+    (answer_counts, 0, 0),
 )
 
 

@@ -64,6 +64,10 @@ def right_history(terms, days, corrections):
     return history
 
 
+def numbers_of_wrong_days(history):
+    return [number for number, right in enumerate(history, start=1) if right.wrong]
+
+
 def add_owed(owed, day, right):
     for deal, stands, should_be in zip(day.deals, day.standing.outcomes, right.result.outcomes):
         owed[deal.holder - 1] += stands.money - should_be.money

@@ -1,7 +1,7 @@
 """The object that the calls are made on: a fund's terms, today, its closed days, corrections and balances."""
 
 from pricesright.bounds import HOLDERS, THINGS, UNITS_OUT
-from pricesright.history import ClosedDay, book_behind, owed_to_holders, right_history
+from pricesright.history import ClosedDay, book_behind, numbers_of_wrong_days, owed_to_holders, right_history
 from pricesright.reckoning import Terms, reckon
 
 
@@ -34,6 +34,12 @@ class Fund:
     def history(self):
         return right_history(self.terms, self.days, self.corrections)
 
+    def right_book(self):
+        return book_behind(self.terms, self.days, [right.result for right in self.history()])
+
+    def owed_to_each(self):
+        return owed_to_holders(self.days, self.history())
+
     def asked_back(self, holder):
         """The units that the holder has asked to give back today."""
         return sum([deal.amount for deal in self.deals if deal.kind == UNITS_OUT and deal.holder == holder])
@@ -57,7 +63,7 @@ class Fund:
         for day, right in zip(self.days, history):
             fees += day.standing.fee - right.result.fee
             day.standing = right.result
-        return PutRight(len([right for right in history if right.wrong]), sum(owed), fees)
+        return PutRight(len(numbers_of_wrong_days(history)), sum(owed), fees)
 
 
 def new_fund():

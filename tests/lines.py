@@ -53,6 +53,34 @@ def right(number):
     return [7, number]
 
 
+def outcome(number, place):
+    return [8, number, place]
+
+
+def holder(number):
+    return [9, number]
+
+
+def book():
+    return [10]
+
+
+def rightbook():
+    return [11]
+
+
+def owed():
+    return [12]
+
+
+def wrongs():
+    return [13]
+
+
+def counts():
+    return [14]
+
+
 def joined(calls):
     together = []
     for call in calls:
@@ -72,7 +100,10 @@ def split(flat):
 
 def ask(calls):
     """The answers to these calls, on a new object."""
-    found = split(answers(joined(calls)))
+    line = joined(calls)
+    if not (1 <= len(calls) <= 400 and len(line) <= 16000):
+        raise AssertionError("a line that may not be")
+    found = split(answers(line))
     if len(found) != len(calls):
         raise AssertionError("not one answer for each call")
     return found
@@ -82,9 +113,16 @@ def last(calls):
     return ask(calls)[-1]
 
 
+def looks(days):
+    """All that can be asked of a fund without changing it; of outcomes, those of the first days."""
+    calls = [counts(), book(), rightbook(), owed(), wrongs()] + [holder(number) for number in range(1, 11)]
+    calls += [day(n) for n in range(1, days + 1)] + [right(n) for n in range(1, days + 1)]
+    return calls + [outcome(n, place) for n in range(1, min(days, 3) + 1) for place in range(1, 11)]
+
+
 def probes(days):
     """Calls whose answers tell apart any two states that differ, as far as calls can tell."""
-    calls = [day(n) for n in range(1, days + 2)] + [right(n) for n in range(1, days + 2)]
+    calls = looks(days + 1)
     calls += [money_in(10, 1), units_out(1, 1), units_out(2, 1), fix(1, 6, 0), fix(1, 6, 0), putright()]
     calls += [close(), day(days + 1), right(days + 1)]
     calls += [quote(thing, 10 * COIN) for thing in range(1, 7)]

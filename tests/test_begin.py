@@ -1,9 +1,11 @@
+"""begin, and the object as it is at a line's beginning."""
+
 import unittest
 
 from pricesright.state import new_fund
 from tests.lines import (
-    COIN, LEAST, MOST, NO_THINGS, ONE_THING, ask, begin, close, day, fix, last, money_in, of_holders, putright,
-    quote, refusal, right, units_out,
+    COIN, LEAST, MOST, NO_THINGS, ONE_THING, ask, begin, book, close, counts, day, fix, holder, last, looks, money_in,
+    of_holders, outcome, owed, putright, quote, refusal, right, rightbook, units_out, wrongs,
 )
 
 TRILLION = 10 ** 12
@@ -13,7 +15,37 @@ MIDST = [
 ]
 
 
+OTHER = begin(cash=11, rate=7, limit=3, quantities=[1, 1, 1, 1, 1, 1], units=of_holders(5, 6))
+# One of each kind, and what a new object answers; then what it answers behind OTHER.
+EACH_KIND = [
+    (begin(units=of_holders(3)), [3], [3]),
+    (quote(1, 5), [0], [0]),
+    (units_out(1, 6), [1], [-7]),
+    (close(), [1, 1000, 1000000, 0], [1, 11, 11, 0]),
+    (fix(1, 1, 5), [-4], [-4]),
+    (putright(), [0, 0, 0], [0, 0, 0]),
+    (day(1), [-4], [-4]),
+    (right(1), [-4], [-4]),
+    (outcome(1, 1), [-4], [-4]),
+    (holder(1), [0, 1000000, 1000000, 0, 0], [0, 5, 5, 0, 0]),
+    (book(), [0, 1000] + of_holders(1000000), [0, 11] + of_holders(5, 6)),
+    (rightbook(), [0, 1000] + of_holders(1000000), [0, 11] + of_holders(5, 6)),
+    (owed(), [0] * 11, [0] * 11),
+    (wrongs(), [0], [0]),
+    (counts(), [0, 0, 0], [0, 0, 0]),
+]
+
+
 class NewObject(unittest.TestCase):
+    def test_a_call_of_each_kind(self):
+        self.assertEqual([call[0] for call, at_first, behind in EACH_KIND], list(range(15)))
+        for call, at_first, behind in EACH_KIND:
+            self.assertEqual(ask([call]), [at_first])
+
+    def test_each_holder(self):
+        found = ask([holder(number) for number in range(1, 11)])
+        self.assertEqual(found, [[0, 1000000, 1000000, 0, 0]] + [[0] * 5] * 9)
+
     def test_what_a_line_begins_with(self):
         self.assertEqual(last([close()]), [1, 1000, 1000000, 0])
 
@@ -38,13 +70,14 @@ class NewObject(unittest.TestCase):
         self.assertEqual(last(told), [2, TRILLION + 1000, 1000000 + 1000 * TRILLION, 0])
 
     def test_terms_at_first(self):
-        # What no call of a line can tell apart yet.
+        # The limit is what no call can tell: without quantities no correction makes a difference.
         terms = new_fund().terms
         self.assertEqual((terms.limit, terms.first_units), (0, of_holders(1000000)))
 
     def test_like_behind_begin(self):
         told = begin(cash=1000, quantities=NO_THINGS, units=of_holders(1000000))
         calls = [money_in(3, 77), units_out(1, 5), close(), fix(1, 2, 5), right(1), putright(), day(1), close()]
+        calls = looks(1) + calls + looks(3)
         self.assertEqual(ask(calls), ask([told] + calls)[1:])
 
 
@@ -71,13 +104,17 @@ class Begin(unittest.TestCase):
         told = begin(0, 0, 0, NO_THINGS, [0] * 9 + [1])
         self.assertEqual(ask([told, close()]), [[1], [-9]])
 
+    def test_a_call_of_each_kind_behind_one_in_the_midst(self):
+        for midst in (MIDST, MIDST + [putright()], MIDST + [close(), close(), putright(), fix(3, 1, 5)]):
+            for call, at_first, behind in EACH_KIND:
+                self.assertEqual(last(midst + [OTHER, call]), behind)
+
     def test_in_the_midst_makes_all_new(self):
-        told = begin(cash=11, rate=7, limit=3, quantities=[1, 1, 1, 1, 1, 1], units=of_holders(5, 6))
-        behind = [
+        behind = looks(2) + [
             close(), day(1), day(2), right(1), putright(), fix(1, 1, 9 * COIN), money_in(1, 2), units_out(1, 5),
             units_out(2, 6), quote(1, 3 * COIN), quote(6, 0), close(), right(1), putright(), day(1), day(2),
-        ]
-        self.assertEqual(ask(MIDST + [putright(), told] + behind)[len(MIDST) + 1:], ask([told] + behind))
+        ] + looks(3)
+        self.assertEqual(ask(MIDST + [putright(), OTHER] + behind)[len(MIDST) + 1:], ask([OTHER] + behind))
 
     def test_numbers_out_of_range(self):
         for wrong in (-1, LEAST, MOST):

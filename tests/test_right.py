@@ -1,13 +1,10 @@
 """fix, right, putright."""
 
-import itertools
 import unittest
 
-from pricesright.fund import answer_begin, answer_close, answer_fix, answer_order, answer_putright, answer_quote
-from pricesright.state import new_fund
 from tests.lines import (
-    COIN, LEAST, MOST, NO_THINGS, ask, begin, close, day, fix, last, money_in, of_holders, putright, quote, refusal,
-    right, units_out,
+    COIN, LEAST, MOST, ask, begin, close, day, fix, last, money_in, of_holders, putright, quote, refusal, right,
+    units_out,
 )
 
 TRILLION = 10 ** 12
@@ -244,93 +241,6 @@ class PutRight(unittest.TestCase):
             [1], [1, value, before, 0], [60, owed, 0], [60, 0, 0], [1, value, before, 0],
             [published, published, 0, 0, 5], [-8],
         ])
-
-
-THREE_DAYS = [
-    begin(cash=5000, rate=900000, limit=3000, quantities=[3, 2, 0, 0, 0, 7], units=of_holders(4000, 3000, 500)),
-    quote(1, 600 * COIN), quote(2, 450 * COIN), quote(6, 90 * COIN),
-    money_in(4, 777), units_out(1, 350), units_out(3, 13), close(),
-    quote(2, 480 * COIN), units_out(2, 999), money_in(3, 1234), units_out(4, 20), close(),
-    quote(1, 610 * COIN), units_out(1, 1), money_in(2, 55), units_out(3, 400), close(),
-]
-CORRECTIONS = [fix(1, 1, 750 * COIN), fix(2, 6, 20 * COIN), fix(3, 2, 481 * COIN), fix(1, 2, 300 * COIN)]
-LOOK = [day(1), day(2), day(3), right(1), right(2), right(3), units_out(1, 3649), units_out(1, 3650), close(), day(4),
-        close()]
-
-
-def ways_to_put_right():
-    """The corrections in each order, and in each a putright behind some of them; one at the end of all."""
-    for found in itertools.permutations(CORRECTIONS):
-        for between in itertools.product((False, True), repeat=len(found) - 1):
-            calls = []
-            for number, correction in enumerate(found):
-                calls.append(correction)
-                if number == len(found) - 1 or between[number]:
-                    calls.append(putright())
-            yield calls
-
-
-def act(fund, call):
-    numbers = call[1:]
-    if call[0] == 0:
-        numbers = call[1:4] + [call[5:11], call[12:22]]
-    ways = [answer_begin, answer_quote, answer_order, answer_close, answer_fix, answer_putright]
-    return ways[call[0]](fund, numbers)
-
-
-def fund_behind(calls):
-    fund = new_fund()
-    for call in calls:
-        act(fund, call)
-    return fund
-
-
-class AllTheSame(unittest.TestCase):
-    def test_in_whatever_order(self):
-        together = ask(THREE_DAYS + CORRECTIONS + [putright()] + LOOK)
-        self.assertEqual(together[-len(LOOK) - 1][0] > 1, True)
-        self.assertNotEqual(together[-len(LOOK) - 1][1], 0)
-        self.assertNotEqual(together[-len(LOOK) - 1][2], 0)
-        for calls in ways_to_put_right():
-            found = ask(THREE_DAYS + calls + LOOK)
-            self.assertEqual(found[-len(LOOK):], together[-len(LOOK):])
-            done = [answer for call, answer in zip(THREE_DAYS + calls, found) if call == putright()]
-            for place in (1, 2):
-                self.assertEqual(sum(answer[place] for answer in done), together[-len(LOOK) - 1][place])
-
-    def test_balances_in_whatever_order(self):
-        together = fund_behind(THREE_DAYS + CORRECTIONS + [putright()])
-        self.assertNotEqual(together.balances[0], 0)
-        for calls in ways_to_put_right():
-            fund = fund_behind(THREE_DAYS + calls)
-            self.assertEqual(fund.balances, together.balances)
-            self.assertEqual(fund.standing_book().units, together.standing_book().units)
-            self.assertEqual(fund.standing_book().cash, together.standing_book().cash)
-
-    def test_a_correction_taken_back_leaves_nothing(self):
-        back = [fix(1, 1, 600 * COIN), fix(2, 6, 90 * COIN), fix(3, 2, 480 * COIN), fix(1, 2, 450 * COIN)]
-        for calls in ways_to_put_right():
-            fund = fund_behind(THREE_DAYS + calls + back + [putright()])
-            self.assertEqual(fund.balances, [0] * 10)
-            self.assertEqual(fund.standing_book().units, fund_behind(THREE_DAYS).standing_book().units)
-            self.assertEqual(fund.standing_book().cash, fund_behind(THREE_DAYS).standing_book().cash)
-
-
-class Balances(unittest.TestCase):
-    def test_each_holder_by_their_own_deals(self):
-        told = [begin(cash=1000, quantities=[1, 0, 0, 0, 0, 0], units=of_holders(400, 300, 300)), units_out(1, 100),
-                units_out(2, 50), money_in(3, 60), units_out(1, 10), close(), fix(1, 1, 1000 * COIN), putright()]
-        fund = fund_behind(told)
-        self.assertEqual(fund.balances, of_holders(110, 50))
-        act(fund, fix(1, 1, 0))
-        act(fund, putright())
-        self.assertEqual(fund.balances, of_holders())
-
-    def test_new_behind_begin(self):
-        fund = fund_behind(FIXED + [putright()])
-        self.assertEqual(fund.balances, of_holders(50))
-        act(fund, begin(quantities=NO_THINGS))
-        self.assertEqual(fund.balances, of_holders())
 
 
 if __name__ == "__main__":
